@@ -1,0 +1,1 @@
+"""What a log of hits and misses says about a shelf."""

@@ -1,0 +1,128 @@
+"""Shelves, logs and histories: what they are and how a shelf follows a log."""
+
+from hitlog.errors import InvalidCapacity, InvalidHistory, InvalidLog, InvalidShelf
+
+HIT = "hit"
+MISS = "miss"
+LETTERS = "abcdefghijklmnopqrstuvwxyz"
+LONGEST_PAGE = 4
+
+
+def is_integer(value):
+    """Return whether any value is an integer; True and False are none."""
+    return isinstance(value, int) and not isinstance(value, bool)
+
+
+def is_page(value):
+    """Return whether any value is a page."""
+    if not isinstance(value, str) or not 1 <= len(value) <= LONGEST_PAGE:
+        return False
+    return all([letter in LETTERS for letter in value])
+
+
+def is_event(value):
+    """Return whether any value is an event."""
+    if not isinstance(value, tuple) or len(value) != 2:
+        return False
+    mark, page = value
+    # Only a string is compared with the marks: a comparison of bytes with a string may warn.
+    return isinstance(mark, str) and mark in (HIT, MISS) and is_page(page)
+
+
+def is_page_list(value):
+    """Return whether any value is a list of pages."""
+    return isinstance(value, list) and all([is_page(page) for page in value])
+
+
+def is_shelf(value):
+    """Return whether any value is a shelf."""
+    if not isinstance(value, tuple) or not all([is_page(page) for page in value]):
+        return False
+    return len(set(value)) == len(value)
+
+
+def is_log(value):
+    """Return whether any value is a log, possible or not."""
+    return isinstance(value, list) and all([is_event(event) for event in value])
+
+
+def check_capacity(capacity):
+    """Raise InvalidCapacity if this is not a capacity."""
+    if not is_integer(capacity) or capacity < 1:
+        raise InvalidCapacity("the capacity is not an integer from 1 on")
+
+
+def check_shelf(start):
+    """Raise InvalidShelf if this is not a shelf, whatever the capacity."""
+    if not is_shelf(start):
+        raise InvalidShelf("not a shelf: a tuple of distinct pages")
+
+
+def check_start(capacity, start):
+    """Raise InvalidShelf if a shelf of this capacity cannot begin so."""
+    check_shelf(start)
+    if len(start) > capacity:
+        raise InvalidShelf("the shelf has more pages than the capacity")
+
+
+def check_log(log):
+    """Raise InvalidLog if this is not a log."""
+    if not is_log(log):
+        raise InvalidLog("not a log: a list of events")
+
+
+def check_arguments(capacity, start, log):
+    """Raise the first error that applies to the three arguments."""
+    check_capacity(capacity)
+    check_start(capacity, start)
+    check_log(log)
+
+
+def sizes(capacity, start, log):
+    """Return size(t) for all moments t."""
+    check_arguments(capacity, start, log)
+    # Without an eviction, each miss would add one page.
+    pages = len(start)
+    found = [pages]
+    for mark, _ in log:
+        if mark == MISS:
+            pages += 1
+        found.append(min(capacity, pages))
+    return found
+
+
+def evicting_misses(capacity, start, log):
+    """Return the indices of the misses that find a full shelf."""
+    before = sizes(capacity, start, log)
+    return [e for e in range(len(log)) if log[e][0] == MISS and before[e] == capacity]
+
+
+def replay(capacity, start, log, evicted):
+    """Return the contents of the shelf at all moments of this history."""
+    misses = evicting_misses(capacity, start, log)
+    if not is_page_list(evicted) or len(evicted) != len(misses):
+        raise InvalidHistory("not a list with one page for each evicting miss")
+    evicted_at = dict(zip(misses, evicted))
+    shelf = tuple(sorted(start))
+    contents = [shelf]
+    for e in range(len(log)):
+        mark, page = log[e]
+        if not _allows(shelf, mark, page, evicted_at.get(e)):
+            raise InvalidHistory("an event or an eviction does not agree with the shelf")
+        if mark == MISS:
+            shelf = _after_miss(shelf, page, evicted_at.get(e))
+        contents.append(shelf)
+    return contents
+
+
+def _allows(shelf, mark, page, evicted):
+    """Return whether this event can happen now and evict this page, or none if it is None."""
+    if (page in shelf) != (mark == HIT):
+        return False
+    return evicted is None or evicted in shelf
+
+
+def _after_miss(shelf, page, evicted):
+    """Return the contents, in alphabetical order, after a miss that evicts this page or none."""
+    kept = [other for other in shelf if other != evicted]
+    return tuple(sorted([*kept, page]))

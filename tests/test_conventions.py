@@ -1,0 +1,206 @@
+"""Tests of [1] and [2]: what the functions do with arguments and with what they return."""
+
+import copy
+import inspect
+import unittest
+
+from hitlog.errors import ShelfError
+from hitlog.gaps import gaps, held_counts
+from hitlog.logs import evicting_misses, is_log, is_shelf, replay, sizes
+from tests.values import WRONG_LOGS, WRONG_SHELVES
+
+START = ("b", "a")
+LOG = [("miss", "c"), ("hit", "a"), ("miss", "b"), ("miss", "d"), ("hit", "a")]
+EVICTED = ["b", "c", "b"]
+
+# Each function with its file and its arguments by name; LOG is possible for capacity 2 and START.
+CALLS = [
+    (is_shelf, "hitlog.logs", {"value": START}),
+    (is_log, "hitlog.logs", {"value": LOG}),
+    (sizes, "hitlog.logs", {"capacity": 2, "start": START, "log": LOG}),
+    (evicting_misses, "hitlog.logs", {"capacity": 2, "start": START, "log": LOG}),
+    (replay, "hitlog.logs", {"capacity": 2, "start": START, "log": LOG, "evicted": EVICTED}),
+    (gaps, "hitlog.gaps", {"start": START, "log": LOG}),
+    (held_counts, "hitlog.gaps", {"capacity": 2, "start": START, "log": LOG}),
+]
+EXPECTED = {
+    "is_shelf": True,
+    "is_log": True,
+    "sizes": [2, 2, 2, 2, 2, 2],
+    "evicting_misses": [0, 2, 3],
+    "replay": [("a", "b"), ("a", "c"), ("a", "c"), ("a", "b"), ("a", "d"), ("a", "d")],
+    "gaps": [
+        ("b", -1, 2, "released"),
+        ("a", -1, 1, "held"),
+        ("c", 0, None, "open"),
+        ("a", 1, 4, "held"),
+        ("b", 2, None, "open"),
+        ("d", 3, None, "open"),
+        ("a", 4, None, "open"),
+    ],
+    "held_counts": [(0, 1), (2, 1), (3, 1)],
+}
+LISTS = [(function, arguments) for function, _, arguments in CALLS if isinstance(EXPECTED[function.__name__], list)]
+
+
+class Interface(unittest.TestCase):
+    def test_each_function_is_defined_in_its_file(self):
+        for function, file, _ in CALLS:
+            self.assertTrue(inspect.isfunction(function), function)
+            self.assertEqual(function.__module__, file)
+
+    def test_the_parameters_have_their_names(self):
+        for function, _, arguments in CALLS:
+            self.assertEqual(list(inspect.signature(function).parameters), list(arguments), function)
+
+    def test_by_position(self):
+        for function, _, arguments in CALLS:
+            self.assertEqual(function(*arguments.values()), EXPECTED[function.__name__], function)
+
+    def test_by_name_in_any_order(self):
+        for function, _, arguments in CALLS:
+            self.assertEqual(function(**arguments), EXPECTED[function.__name__], function)
+            turned = dict(reversed(list(arguments.items())))
+            self.assertEqual(function(**turned), EXPECTED[function.__name__], function)
+
+    def test_by_position_and_by_name(self):
+        for function, _, arguments in CALLS:
+            values = list(arguments.values())
+            rest = dict(list(arguments.items())[1:])
+            self.assertEqual(function(values[0], **rest), EXPECTED[function.__name__], function)
+
+
+class Arguments(unittest.TestCase):
+    def test_they_are_the_same_after_the_call(self):
+        for function, _, arguments in CALLS:
+            before = copy.deepcopy(arguments)
+            function(**arguments)
+            self.assertEqual(arguments, before, function)
+
+    def test_they_are_the_same_after_an_error(self):
+        log = [("miss", "a"), ("miss", "b"), ("miss", "c")]
+        for evicted in (["c"], ["b", "a"], [], ["A"], [["a"]]):
+            given, pages = copy.deepcopy(log), copy.deepcopy(evicted)
+            with self.assertRaises(ShelfError):
+                replay(2, (), given, pages)
+            self.assertEqual((given, pages), (log, evicted))
+
+    def test_wrong_values_are_the_same_after_the_question(self):
+        for question, values in ((is_shelf, WRONG_SHELVES), (is_log, WRONG_LOGS)):
+            for value in values:
+                if isinstance(value, (list, dict, tuple)):
+                    before = repr(value)
+                    question(value)
+                    self.assertEqual(repr(value), before)
+
+    def test_their_order_is_kept(self):
+        start, log = ("d", "b", "a"), [("miss", "c"), ("miss", "aa")]
+        evicted = ["d", "b"]
+        replay(3, start, log, evicted)
+        gaps(start, log)
+        self.assertEqual(start, ("d", "b", "a"))
+        self.assertEqual(log, [("miss", "c"), ("miss", "aa")])
+        self.assertEqual(evicted, ["d", "b"])
+
+    def test_equal_arguments_give_equal_results(self):
+        for function, _, arguments in CALLS:
+            self.assertEqual(function(**copy.deepcopy(arguments)), function(**arguments), function)
+
+
+class ReturnedLists(unittest.TestCase):
+    def test_two_calls_give_two_lists(self):
+        for function, arguments in LISTS:
+            first, second = function(**arguments), function(**arguments)
+            self.assertIs(type(first), list)
+            self.assertEqual(first, second)
+            self.assertIsNot(first, second, function)
+
+    def test_empty_lists_are_new_too(self):
+        for function, arguments in (
+            (evicting_misses, (2, (), [])),
+            (held_counts, (2, (), [])),
+            (gaps, ((), [])),
+        ):
+            first, second = function(*arguments), function(*arguments)
+            self.assertEqual((first, second), ([], []))
+            self.assertIsNot(first, second, function)
+            first.append("x")
+            self.assertEqual(function(*arguments), [], function)
+
+    def test_no_argument_is_returned(self):
+        for function, arguments in LISTS:
+            found = function(**arguments)
+            for value in arguments.values():
+                self.assertIsNot(found, value, function)
+        log, evicted = [], []
+        for found in (evicting_misses(1, (), log), held_counts(1, (), log), gaps((), log)):
+            self.assertIsNot(found, log)
+        self.assertIsNot(replay(1, (), log, evicted), evicted)
+
+    def test_a_changed_list_has_no_effect(self):
+        for function, arguments in LISTS:
+            function(**arguments).clear()
+            function(**arguments).append("x")
+            function(**arguments).reverse()
+            self.assertEqual(function(**arguments), EXPECTED[function.__name__], function)
+
+
+class ChangedArguments(unittest.TestCase):
+    def test_an_earlier_result_stays(self):
+        for function, arguments in LISTS:
+            given = copy.deepcopy(arguments)
+            found = function(**given)
+            given["log"].clear()
+            if "evicted" in given:
+                given["evicted"].clear()
+            self.assertEqual(found, EXPECTED[function.__name__], function)
+
+    def test_a_log_changed_in_place_is_read_anew(self):
+        log = [("miss", "a"), ("miss", "b"), ("miss", "c")]
+        self.assertEqual(sizes(2, (), log), [0, 1, 2, 2])
+        self.assertEqual(evicting_misses(2, (), log), [2])
+        self.assertEqual(held_counts(2, (), log), [(2, 0)])
+        self.assertEqual(replay(2, (), log, ["b"])[-1], ("a", "c"))
+        self.assertEqual(gaps((), log), [("a", 0, None, "open"), ("b", 1, None, "open"), ("c", 2, None, "open")])
+        log.append(("hit", "a"))
+        self.assertEqual(sizes(2, (), log), [0, 1, 2, 2, 2])
+        self.assertEqual(evicting_misses(2, (), log), [2])
+        self.assertEqual(held_counts(2, (), log), [(2, 1)])
+        self.assertEqual(replay(2, (), log, ["b"])[-1], ("a", "c"))
+        self.assertEqual(gaps((), log)[0], ("a", 0, 3, "held"))
+        log[1:] = [("hit", "a")]
+        self.assertEqual(sizes(2, (), log), [0, 1, 1])
+        self.assertEqual(evicting_misses(2, (), log), [])
+        self.assertEqual(held_counts(2, (), log), [])
+        self.assertEqual(replay(2, (), log, []), [(), ("a",), ("a",)])
+        self.assertEqual(gaps((), log), [("a", 0, 1, "held"), ("a", 1, None, "open")])
+
+    def test_a_log_that_becomes_wrong_and_right_again(self):
+        log = [("miss", "a"), ("miss", "b")]
+        self.assertIs(is_log(log), True)
+        log.append("c")
+        self.assertIs(is_log(log), False)
+        for function in (sizes, evicting_misses, held_counts):
+            with self.assertRaises(ShelfError):
+                function(2, (), log)
+        log.pop()
+        self.assertIs(is_log(log), True)
+        self.assertEqual(sizes(2, (), log), [0, 1, 2])
+
+    def test_a_history_changed_in_place_is_read_anew(self):
+        log, evicted = [("miss", "a"), ("miss", "b"), ("miss", "c")], ["a"]
+        self.assertEqual(replay(2, (), log, evicted)[-1], ("b", "c"))
+        evicted[0] = "b"
+        self.assertEqual(replay(2, (), log, evicted)[-1], ("a", "c"))
+        evicted.append("a")
+        with self.assertRaises(ShelfError):
+            replay(2, (), log, evicted)
+
+    def test_the_order_of_calls_has_no_effect(self):
+        first = [function(**arguments) for function, _, arguments in CALLS]
+        second = [function(**arguments) for function, _, arguments in reversed(CALLS)]
+        self.assertEqual(first, second[::-1])
+
+
+if __name__ == "__main__":
+    unittest.main()
