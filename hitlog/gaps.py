@@ -26,9 +26,28 @@ def gaps(start, log):
 
 def held_counts(capacity, start, log):
     """Return (e, held(e)) for all evicting misses e."""
-    misses = evicting_misses(capacity, start, log)
-    held = _held_at_events(start, log)
-    return [(e, held[e]) for e in misses]
+    return count_held(evicting_misses(capacity, start, log), gaps(start, log))
+
+
+def count_held(misses, all_gaps):
+    """Return (e, held(e)) for these misses e, which are in ascending order, counting these gaps."""
+    begins = sorted([begin for _, begin, _, kind in all_gaps if kind == HELD])
+    ends = sorted([end for _, _, end, kind in all_gaps if kind == HELD])
+    counts = []
+    begun = ended = 0
+    for e in misses:
+        # A gap that begins or ends at e itself does not lie around e.
+        while begun < len(begins) and begins[begun] < e:
+            begun += 1
+        while ended < len(ends) and ends[ended] <= e:
+            ended += 1
+        counts.append((e, begun - ended))
+    return counts
+
+
+def gaps_around(all_gaps, first, last):
+    """Return those of these gaps that the moments from first to last lie in: one for a page at most."""
+    return [gap for gap in all_gaps if gap[1] < first and (gap[2] is None or last <= gap[2])]
 
 
 def _kind(log, end):
@@ -36,19 +55,3 @@ def _kind(log, end):
     if end is None:
         return OPEN
     return HELD if log[end][0] == HIT else RELEASED
-
-
-def _held_at_events(start, log):
-    """Return held(e) for all events e."""
-    change = [0] * len(log)
-    for _, begin, end, kind in gaps(start, log):
-        if kind == HELD:
-            # The events at begin and at end do not lie inside the gap.
-            change[begin + 1] += 1
-            change[end] -= 1
-    held = []
-    running = 0
-    for e in range(len(log)):
-        running += change[e]
-        held.append(running)
-    return held

@@ -1,6 +1,13 @@
 """Shelves, logs and histories: what they are and how a shelf follows a log."""
 
-from hitlog.errors import InvalidCapacity, InvalidHistory, InvalidLog, InvalidShelf
+from hitlog.errors import (
+    InvalidCapacity,
+    InvalidHistory,
+    InvalidLog,
+    InvalidMoment,
+    InvalidPage,
+    InvalidShelf,
+)
 
 HIT = "hit"
 MISS = "miss"
@@ -76,6 +83,18 @@ def check_arguments(capacity, start, log):
     check_capacity(capacity)
     check_start(capacity, start)
     check_log(log)
+
+
+def check_page(page):
+    """Raise InvalidPage if this is not a page."""
+    if not is_page(page):
+        raise InvalidPage("not a page: a string of one to four letters from a to z")
+
+
+def check_moment(log, moment):
+    """Raise InvalidMoment if the log does not have this moment."""
+    if not is_integer(moment) or not 0 <= moment <= len(log):
+        raise InvalidMoment("not a moment: an integer from 0 to the number of events")
 
 
 def sizes(capacity, start, log):

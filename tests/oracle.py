@@ -58,19 +58,132 @@ def held_counts(capacity, start, log):
     ]
 
 
+def reasons(capacity, start, log):
+    """Return all violations of the conditions of [9], in the order of [14], with b up to the end of the log."""
+    found = []
+    for index, (mark, page) in enumerate(log):
+        if mark == "hit" and page not in start and page not in [other for _, other in log[:index]]:
+            found.append(("first", index))
+    for e, held in held_counts(capacity, start, log):
+        if not held <= capacity - 1:
+            found.append(("held", e))
+    misses = evicting_misses(capacity, start, log)
+    released = [(begin, end) for _, begin, end, kind in gaps(start, log) if kind == "released"]
+    for b in range(len(log) + 1):
+        for a in range(b - 1, -2, -1):
+            inside = [1 for begin, end in released if a <= begin and end <= b]
+            if not len(inside) <= len([e for e in misses if a < e < b]):
+                found.append(("released", a, b))
+    return found
+
+
+def history(capacity, start, log):
+    """Return what the rule of [15] evicts, step by step, or None if it comes to an end before the log does."""
+    shelf = list(start)
+    evicted = []
+    for e, (mark, page) in enumerate(log):
+        if (mark == "hit") != (page in shelf):
+            return None
+        if mark == "hit":
+            continue
+        if len(shelf) == capacity:
+            victim = victim_of_the_rule(shelf, start, log, e)
+            if victim is None:
+                return None
+            shelf.remove(victim)
+            evicted.append(victim)
+        shelf.append(page)
+    return evicted
+
+
+def victim_of_the_rule(shelf, start, log, e):
+    around = [one for one in gaps(start, log) if one[0] in shelf and one[1] < e and (one[2] is None or e < one[2])]
+    released = [one for one in around if one[3] == "released"]
+    if released:
+        return min(released, key=lambda one: one[2])[0]
+    # Gaps are in the order of their begin, and of the start.
+    still_open = [one[0] for one in around if one[3] == "open"]
+    return still_open[0] if still_open else None
+
+
+def steps(capacity, now, mark, page):
+    """Return (evicted page or None, next contents) for all that the event can do to these contents."""
+    if (mark == "hit") != (page in now):
+        return []
+    if mark == "hit":
+        return [(None, now)]
+    if len(now) < capacity:
+        return [(None, now | {page})]
+    return [(victim, (now - {victim}) | {page}) for victim in now]
+
+
 def replays(capacity, start, log):
     """Return all histories, each as a pair of the evicted pages and the contents at all moments."""
     found = [([], [frozenset(start)])]
     for mark, page in log:
         longer = []
         for evicted, contents in found:
-            now = contents[-1]
-            if mark == "hit" and page in now:
-                longer.append((evicted, contents + [now]))
-            if mark == "miss" and page not in now and len(now) < capacity:
-                longer.append((evicted, contents + [now | {page}]))
-            if mark == "miss" and page not in now and len(now) == capacity:
-                for victim in now:
-                    longer.append((evicted + [victim], contents + [(now - {victim}) | {page}]))
+            for victim, after in steps(capacity, contents[-1], mark, page):
+                longer.append((evicted if victim is None else evicted + [victim], contents + [after]))
         found = longer
     return [(evicted, [tuple(sorted(now)) for now in contents]) for evicted, contents in found]
+
+
+class Told:
+    """What all histories together tell.
+
+    shelves[t] is the set of the contents, as frozensets, at moment t; victims[e] is the set of the evicted pages at
+    the evicting miss e. If there is no history, then nothing is in shelves[0].
+    """
+
+    def __init__(self, shelves, victims):
+        self.shelves = shelves
+        self.victims = victims
+
+    def presence(self, page, moment):
+        seen = {page in shelf for shelf in self.shelves[moment]}
+        return {True: "always", False: "never", None: "sometimes"}[seen.pop() if len(seen) == 1 else None]
+
+    def certain(self, moment):
+        return tuple(sorted(frozenset.intersection(*self.shelves[moment])))
+
+    def possible(self, moment):
+        return tuple(sorted(frozenset.union(*self.shelves[moment])))
+
+    def known(self):
+        return [(e, *pages) for e, pages in sorted(self.victims.items()) if len(pages) == 1]
+
+    def range(self, start, log, index):
+        for page, begin, end, _ in gaps(start, log):
+            if end == index:
+                at = [e for e in self.victims if begin < e < end and page in self.victims[e]]
+                return (min(at), max(at))
+
+
+def told_by_each_history(capacity, start, log):
+    """Return what all histories tell, from a list of them."""
+    all_replays = replays(capacity, start, log)
+    shelves = [{frozenset(contents[t]) for _, contents in all_replays} for t in range(len(log) + 1)]
+    misses = evicting_misses(capacity, start, log)
+    return Told(shelves, {e: {evicted[k] for evicted, _ in all_replays} for k, e in enumerate(misses)})
+
+
+def told_by_contents(capacity, start, log):
+    """Return the same for longer logs: the contents that can be reached and from which the log can go on."""
+    ways = []
+    reached = {frozenset(start)}
+    for mark, page in log:
+        ways.append({now: steps(capacity, now, mark, page) for now in reached})
+        reached = {after for followers in ways[-1].values() for _, after in followers}
+    shelves = [reached]
+    victims = {e: set() for e in evicting_misses(capacity, start, log)}
+    for e in range(len(log) - 1, -1, -1):
+        going_on = set()
+        for now, followers in ways[e].items():
+            for victim, after in followers:
+                if after in shelves[0]:
+                    going_on.add(now)
+                    if victim is not None:
+                        victims[e].add(victim)
+        shelves.insert(0, going_on)
+    return Told(shelves, victims)

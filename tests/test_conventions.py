@@ -4,24 +4,42 @@ import copy
 import inspect
 import unittest
 
+from hitlog.capacities import capacities, next_marks
 from hitlog.errors import ShelfError
+from hitlog.evictions import candidates, eviction_range, known_evictions
 from hitlog.gaps import gaps, held_counts
 from hitlog.logs import evicting_misses, is_log, is_shelf, replay, sizes
+from hitlog.possible import first_impossible, history, is_possible, is_reason, why_not
+from hitlog.presence import certain_pages, possible_pages, presence
 from tests.values import WRONG_LOGS, WRONG_SHELVES
 
 START = ("b", "a")
 LOG = [("miss", "c"), ("hit", "a"), ("miss", "b"), ("miss", "d"), ("hit", "a")]
 EVICTED = ["b", "c", "b"]
+THREE = {"capacity": 2, "start": START, "log": LOG}
 
 # Each function with its file and its arguments by name; LOG is possible for capacity 2 and START.
 CALLS = [
     (is_shelf, "hitlog.logs", {"value": START}),
     (is_log, "hitlog.logs", {"value": LOG}),
-    (sizes, "hitlog.logs", {"capacity": 2, "start": START, "log": LOG}),
-    (evicting_misses, "hitlog.logs", {"capacity": 2, "start": START, "log": LOG}),
-    (replay, "hitlog.logs", {"capacity": 2, "start": START, "log": LOG, "evicted": EVICTED}),
+    (sizes, "hitlog.logs", THREE),
+    (evicting_misses, "hitlog.logs", THREE),
+    (replay, "hitlog.logs", {**THREE, "evicted": EVICTED}),
     (gaps, "hitlog.gaps", {"start": START, "log": LOG}),
-    (held_counts, "hitlog.gaps", {"capacity": 2, "start": START, "log": LOG}),
+    (held_counts, "hitlog.gaps", THREE),
+    (is_possible, "hitlog.possible", THREE),
+    (why_not, "hitlog.possible", THREE),
+    (is_reason, "hitlog.possible", {**THREE, "value": ("held", 0)}),
+    (history, "hitlog.possible", THREE),
+    (first_impossible, "hitlog.possible", THREE),
+    (capacities, "hitlog.capacities", {"start": START, "log": LOG}),
+    (next_marks, "hitlog.capacities", {**THREE, "page": "b"}),
+    (presence, "hitlog.presence", {**THREE, "page": "a", "moment": 3}),
+    (certain_pages, "hitlog.presence", {**THREE, "moment": 5}),
+    (possible_pages, "hitlog.presence", {**THREE, "moment": 0}),
+    (candidates, "hitlog.evictions", {**THREE, "index": 2}),
+    (known_evictions, "hitlog.evictions", THREE),
+    (eviction_range, "hitlog.evictions", {**THREE, "index": 2}),
 ]
 EXPECTED = {
     "is_shelf": True,
@@ -39,6 +57,19 @@ EXPECTED = {
         ("a", 4, None, "open"),
     ],
     "held_counts": [(0, 1), (2, 1), (3, 1)],
+    "is_possible": True,
+    "why_not": None,
+    "is_reason": False,
+    "history": ["b", "c", "b"],
+    "first_impossible": None,
+    "capacities": (2, 2),
+    "next_marks": ["miss"],
+    "presence": "always",
+    "certain_pages": ("a", "d"),
+    "possible_pages": ("a", "b"),
+    "candidates": ["c"],
+    "known_evictions": [(0, "b"), (2, "c"), (3, "b")],
+    "eviction_range": (0, 0),
 }
 LISTS = [(function, arguments) for function, _, arguments in CALLS if isinstance(EXPECTED[function.__name__], list)]
 
@@ -85,6 +116,25 @@ class Arguments(unittest.TestCase):
                 replay(2, (), given, pages)
             self.assertEqual((given, pages), (log, evicted))
 
+    def test_they_are_the_same_after_other_errors(self):
+        log = [("miss", "a"), ("miss", "b"), ("hit", "z")]
+        given = copy.deepcopy(log)
+        for function, more in (
+            (next_marks, ["A"]),
+            (next_marks, ["a"]),
+            (presence, ["a", 4]),
+            (presence, ["a", 3]),
+            (certain_pages, [None]),
+            (possible_pages, [3]),
+            (candidates, [[0]]),
+            (known_evictions, []),
+            (eviction_range, [{}]),
+        ):
+            before = copy.deepcopy(more)
+            with self.assertRaises(ShelfError):
+                function(2, ("x",), given, *more)
+            self.assertEqual((given, more), (log, before))
+
     def test_wrong_values_are_the_same_after_the_question(self):
         for question, values in ((is_shelf, WRONG_SHELVES), (is_log, WRONG_LOGS)):
             for value in values:
@@ -120,6 +170,8 @@ class ReturnedLists(unittest.TestCase):
             (evicting_misses, (2, (), [])),
             (held_counts, (2, (), [])),
             (gaps, ((), [])),
+            (history, (2, (), [])),
+            (known_evictions, (2, (), [])),
         ):
             first, second = function(*arguments), function(*arguments)
             self.assertEqual((first, second), ([], []))
@@ -134,6 +186,8 @@ class ReturnedLists(unittest.TestCase):
                 self.assertIsNot(found, value, function)
         log, evicted = [], []
         for found in (evicting_misses(1, (), log), held_counts(1, (), log), gaps((), log)):
+            self.assertIsNot(found, log)
+        for found in (history(1, (), log), known_evictions(1, (), log)):
             self.assertIsNot(found, log)
         self.assertIsNot(replay(1, (), log, evicted), evicted)
 
@@ -175,15 +229,40 @@ class ChangedArguments(unittest.TestCase):
         self.assertEqual(replay(2, (), log, []), [(), ("a",), ("a",)])
         self.assertEqual(gaps((), log), [("a", 0, 1, "held"), ("a", 1, None, "open")])
 
+    def test_a_log_changed_in_place_gives_other_answers(self):
+        log = [("miss", "a"), ("miss", "b"), ("miss", "c")]
+        self.assertEqual(candidates(2, (), log, 2), ["a", "b"])
+        self.assertEqual(presence(2, (), log, "a", 3), "sometimes")
+        self.assertEqual(next_marks(2, (), log, "b"), ["hit", "miss"])
+        self.assertEqual(history(2, (), log), ["a"])
+        log.append(("hit", "a"))
+        self.assertEqual(candidates(2, (), log, 2), ["b"])
+        self.assertEqual(presence(2, (), log, "a", 3), "always")
+        self.assertEqual(next_marks(2, (), log, "b"), ["miss"])
+        self.assertEqual(history(2, (), log), ["b"])
+        self.assertEqual(known_evictions(2, (), log), [(2, "b")])
+        self.assertEqual(capacities((), log), (2, None))
+        log.append(("hit", "b"))
+        self.assertIs(is_possible(2, (), log), False)
+        self.assertEqual(why_not(2, (), log), ("held", 2))
+        self.assertEqual(first_impossible(2, (), log), 4)
+        self.assertIs(history(2, (), log), None)
+        self.assertEqual(capacities((), log), (3, None))
+        log[:] = [("miss", "a"), ("miss", "b"), ("miss", "a")]
+        self.assertEqual(eviction_range(1, (), log, 2), (1, 1))
+        self.assertEqual(certain_pages(1, (), log, 2), ("b",))
+        self.assertEqual(possible_pages(1, (), log, 3), ("a",))
+
     def test_a_log_that_becomes_wrong_and_right_again(self):
         log = [("miss", "a"), ("miss", "b")]
         self.assertIs(is_log(log), True)
         log.append("c")
         self.assertIs(is_log(log), False)
-        for function in (sizes, evicting_misses, held_counts):
+        for function in (sizes, evicting_misses, held_counts, is_possible, why_not, history, known_evictions):
             with self.assertRaises(ShelfError):
                 function(2, (), log)
         log.pop()
+        self.assertIs(is_possible(2, (), log), True)
         self.assertIs(is_log(log), True)
         self.assertEqual(sizes(2, (), log), [0, 1, 2])
 

@@ -1,9 +1,13 @@
-"""The examples of the document, sections 4 and 5, with exactly the value shown."""
+"""The examples of the document, sections 4 to 9, with exactly the value shown."""
 
 import unittest
 
+from hitlog.capacities import capacities, next_marks
+from hitlog.evictions import candidates, eviction_range, known_evictions
 from hitlog.gaps import gaps, held_counts
 from hitlog.logs import evicting_misses, is_log, replay, sizes
+from hitlog.possible import first_impossible, history, is_possible, is_reason, why_not
+from hitlog.presence import certain_pages, possible_pages, presence
 
 
 class Examples(unittest.TestCase):
@@ -35,6 +39,55 @@ class Examples(unittest.TestCase):
     def test_held_counts(self):
         value = held_counts(2, (), [("miss", "a"), ("miss", "b"), ("miss", "c"), ("hit", "a")])
         self.check(value, "[(2, 1)]")
+
+    def test_is_possible(self):
+        value = is_possible(2, (), [("miss", "a"), ("miss", "b"), ("miss", "c"), ("hit", "a")])
+        self.check(value, "True")
+
+    def test_why_not_released(self):
+        self.check(why_not(2, (), [("miss", "a"), ("miss", "b"), ("miss", "a")]), "('released', 0, 2)")
+
+    def test_why_not_held(self):
+        self.check(why_not(2, ("x", "y"), [("miss", "a"), ("hit", "x"), ("hit", "y")]), "('held', 0)")
+
+    def test_is_reason(self):
+        value = is_reason(2, (), [("miss", "a"), ("miss", "b"), ("miss", "a")], ("released", -1, 2))
+        self.check(value, "True")
+
+    def test_history(self):
+        value = history(2, (), [("miss", "a"), ("miss", "b"), ("miss", "c"), ("miss", "a"), ("miss", "b")])
+        self.check(value, "['a', 'b', 'c']")
+
+    def test_first_impossible(self):
+        self.check(first_impossible(2, (), [("miss", "a"), ("miss", "b"), ("miss", "a")]), "2")
+
+    def test_capacities(self):
+        log = [("miss", "a"), ("miss", "b"), ("miss", "c"), ("miss", "d"), ("miss", "a"), ("miss", "b")]
+        self.check(capacities((), log), "(1, 3)")
+        self.check(capacities((), [("miss", "a"), ("miss", "b"), ("miss", "c"), ("hit", "a")]), "(2, None)")
+
+    def test_next_marks(self):
+        self.check(next_marks(2, (), [("miss", "a"), ("miss", "b"), ("miss", "c")], "a"), "['hit', 'miss']")
+
+    def test_presence(self):
+        self.check(presence(2, (), [("miss", "a"), ("miss", "b"), ("miss", "c")], "a", 3), "'sometimes'")
+
+    def test_certain_pages(self):
+        self.check(certain_pages(2, (), [("miss", "a"), ("miss", "b"), ("miss", "c")], 3), "('c',)")
+
+    def test_possible_pages(self):
+        self.check(possible_pages(2, (), [("miss", "a"), ("miss", "b"), ("miss", "c")], 3), "('a', 'b', 'c')")
+
+    def test_candidates(self):
+        self.check(candidates(2, (), [("miss", "a"), ("miss", "b"), ("miss", "c")], 2), "['a', 'b']")
+
+    def test_known_evictions(self):
+        value = known_evictions(2, (), [("miss", "a"), ("miss", "b"), ("miss", "c"), ("miss", "a"), ("miss", "b")])
+        self.check(value, "[(2, 'a'), (3, 'b')]")
+
+    def test_eviction_range(self):
+        value = eviction_range(2, (), [("miss", "a"), ("miss", "b"), ("miss", "c"), ("miss", "a"), ("miss", "b")], 4)
+        self.check(value, "(3, 3)")
 
 
 if __name__ == "__main__":

@@ -3,7 +3,15 @@
 import unittest
 
 from hitlog.logs import is_log, is_shelf
-from tests.values import ODD_VALUES, RIGHT_PAGES, WRONG_EVENTS, WRONG_LOGS, WRONG_PAGES, WRONG_SHELVES
+from tests.values import (
+    ODD_VALUES,
+    RIGHT_PAGES,
+    WRONG_EVENTS,
+    WRONG_LOGS,
+    WRONG_PAGES,
+    WRONG_SHELVES,
+    Refusing,
+)
 
 ALPHABET = "abcdefghijklmnopqrstuvwxyz"
 
@@ -119,22 +127,6 @@ class IsLog(unittest.TestCase):
 
 class NothingIsRaised(unittest.TestCase):
     def test_values_that_refuse_everything(self):
-        class Refusing:
-            def __eq__(self, other):
-                raise RuntimeError
-
-            def __hash__(self):
-                raise RuntimeError
-
-            def __len__(self):
-                raise RuntimeError
-
-            def __bool__(self):
-                raise RuntimeError
-
-            def __iter__(self):
-                raise RuntimeError
-
         value = Refusing()
         for wrong in (value, (value,), ("a", value), (value, value), (value, "a")):
             self.assertIs(is_shelf(wrong), False)

@@ -1,11 +1,24 @@
-"""Tests of [3] and of the errors in [11], [12] and [13]: each error alone, and which one comes first."""
+"""Tests of [3] and of the errors in [11] to [22]: each error alone, and which one comes first."""
 
 import unittest
 from itertools import product
 
-from hitlog.errors import InvalidCapacity, InvalidHistory, InvalidLog, InvalidShelf
+from hitlog.capacities import capacities, next_marks
+from hitlog.errors import (
+    InvalidCapacity,
+    InvalidHistory,
+    InvalidIndex,
+    InvalidLog,
+    InvalidMoment,
+    InvalidPage,
+    InvalidShelf,
+    NotPossible,
+)
+from hitlog.evictions import candidates, eviction_range, known_evictions
 from hitlog.gaps import gaps, held_counts
 from hitlog.logs import evicting_misses, replay, sizes
+from hitlog.possible import first_impossible, history, is_possible, is_reason, why_not
+from hitlog.presence import certain_pages, possible_pages, presence
 from tests.values import WRONG_CAPACITIES, WRONG_LOGS, WRONG_SHELVES
 
 LOG = [("miss", "a"), ("miss", "b"), ("hit", "a")]
@@ -15,13 +28,39 @@ def replay_without_evictions(capacity, start, log):
     return replay(capacity, start, log, [])
 
 
-WITH_CAPACITY = [sizes, evicting_misses, held_counts, replay_without_evictions]
+def with_more(function, *more):
+    """Return the function of three arguments that passes these, too."""
+    return lambda capacity, start, log: function(capacity, start, log, *more)
+
+
+ONLY_WITH_CAPACITY = [sizes, evicting_misses, held_counts, is_possible, why_not, history, first_impossible]
+WITH_CAPACITY = ONLY_WITH_CAPACITY + [
+    known_evictions,
+    replay_without_evictions,
+    with_more(is_reason, None),
+    with_more(next_marks, "a"),
+    with_more(presence, "a", 0),
+    with_more(certain_pages, 0),
+    with_more(possible_pages, 0),
+    with_more(candidates, 0),
+    with_more(eviction_range, 0),
+    # A wrong argument behind the first three comes later.
+    with_more(next_marks, None),
+    with_more(presence, "A", -1),
+    with_more(certain_pages, True),
+    with_more(possible_pages, None),
+    with_more(candidates, None),
+    with_more(eviction_range, None),
+]
+WITHOUT_CAPACITY = [gaps, capacities]
 
 # Few wrong values of each argument, for all combinations of several wrong arguments.
 SOME_CAPACITIES = [0, -3, True, "2", None]
 SOME_SHELVES = [["a"], ("a", "a"), ("A",), None, "ab"]
 SOME_LOGS = [(), [("out", "a")], [["miss", "a"]], None, "-a"]
 SOME_HISTORIES = [["a"], (), None, ["A"], "a"]
+SOME_PAGES = ["", "A", None, ("a",)]
+SOME_MOMENTS = [-1, 6, True, None, "2", 2.0]
 
 
 class Wrong(unittest.TestCase):
@@ -43,9 +82,10 @@ class OneWrongArgument(Wrong):
             for start in WRONG_SHELVES:
                 with self.subTest(function=function, start=start):
                     self.expect(InvalidShelf, function, 40, start, LOG)
-        for start in WRONG_SHELVES:
-            with self.subTest(start=start):
-                self.expect(InvalidShelf, gaps, start, LOG)
+        for function in WITHOUT_CAPACITY:
+            for start in WRONG_SHELVES:
+                with self.subTest(function=function, start=start):
+                    self.expect(InvalidShelf, function, start, LOG)
 
     def test_more_pages_than_the_capacity(self):
         for function in WITH_CAPACITY:
@@ -68,9 +108,10 @@ class OneWrongArgument(Wrong):
             for log in WRONG_LOGS:
                 with self.subTest(function=function, log=log):
                     self.expect(InvalidLog, function, 2, ("a",), log)
-        for log in WRONG_LOGS:
-            with self.subTest(log=log):
-                self.expect(InvalidLog, gaps, ("a",), log)
+        for function in WITHOUT_CAPACITY:
+            for log in WRONG_LOGS:
+                with self.subTest(function=function, log=log):
+                    self.expect(InvalidLog, function, ("a",), log)
 
     def test_an_invalid_event_at_any_index_of_a_long_log(self):
         right = [("miss", "a"), ("miss", "b")] * 65
@@ -79,10 +120,14 @@ class OneWrongArgument(Wrong):
                 log = right[:index] + [event] + right[index + 1:]
                 for function in WITH_CAPACITY:
                     self.expect(InvalidLog, function, 1, (), log)
-                self.expect(InvalidLog, gaps, (), log)
+                for function in WITHOUT_CAPACITY:
+                    self.expect(InvalidLog, function, (), log)
 
     def test_a_log_after_an_impossible_event(self):
-        self.expect(InvalidLog, replay, 2, (), [("hit", "a"), None], [])
+        for function in WITH_CAPACITY:
+            self.expect(InvalidLog, function, 2, (), [("hit", "a"), None])
+        for function in WITHOUT_CAPACITY:
+            self.expect(InvalidLog, function, (), [("hit", "a"), None])
 
     def test_history(self):
         for evicted in SOME_HISTORIES:
@@ -107,7 +152,7 @@ class SeveralWrongArguments(Wrong):
             self.choices(("a",), InvalidShelf, SOME_SHELVES + [("a", "b", "c")]),
             self.choices(LOG, InvalidLog, SOME_LOGS),
         ]
-        for function in (sizes, evicting_misses, held_counts):
+        for function in ONLY_WITH_CAPACITY:
             self.check(function, choices)
 
     def test_capacity_shelf_log_history(self):
@@ -124,12 +169,71 @@ class SeveralWrongArguments(Wrong):
             self.choices(("a",), InvalidShelf, SOME_SHELVES),
             self.choices(LOG, InvalidLog, SOME_LOGS),
         ]
-        self.check(gaps, choices)
+        for function in WITHOUT_CAPACITY:
+            self.check(function, choices)
 
     def test_too_many_pages_come_before_the_log(self):
         for function in WITH_CAPACITY:
             self.expect(InvalidShelf, function, 1, ("a", "b"), [("out", "a")])
             self.expect(InvalidCapacity, function, 0, ("a", "b"), [("out", "a")])
+
+
+class NotPossibleComesLast(Wrong):
+    """Both logs have an evicting miss at 2 and the end of a released gap at 3, but one is not possible."""
+
+    right = [("miss", "a"), ("miss", "b"), ("miss", "c"), ("miss", "a"), ("hit", "a")]
+    impossible = [("miss", "a"), ("miss", "b"), ("miss", "c"), ("miss", "a"), ("hit", "z")]
+
+    def check(self, function, *more):
+        """Try all combinations of right and wrong arguments; more are the choices behind the log."""
+        choices = [
+            [(None, 2)] + [(InvalidCapacity, value) for value in SOME_CAPACITIES],
+            [(None, ())] + [(InvalidShelf, value) for value in SOME_SHELVES + [("a", "b", "c")]],
+            [(None, self.right), (NotPossible, self.impossible)] + [(InvalidLog, value) for value in SOME_LOGS],
+            *more,
+        ]
+        for chosen in product(*choices):
+            named = [error for error, value in chosen if error is not None]
+            # NotPossible is the last condition of each of these functions, though the log is not the last argument.
+            named.sort(key=lambda error: error is NotPossible)
+            arguments = [value for error, value in chosen]
+            if named:
+                with self.subTest(function=function, chosen=chosen):
+                    self.expect(named[0], function, *arguments)
+            else:
+                function(*arguments)
+
+    def test_page(self):
+        self.check(next_marks, [(None, "a"), (None, "zz")] + [(InvalidPage, value) for value in SOME_PAGES])
+
+    def test_page_and_moment(self):
+        pages = [(None, "a")] + [(InvalidPage, value) for value in SOME_PAGES]
+        moments = [(None, 0), (None, 5)] + [(InvalidMoment, value) for value in SOME_MOMENTS]
+        self.check(presence, pages, moments)
+
+    def test_moment(self):
+        moments = [(None, 0), (None, 5)] + [(InvalidMoment, value) for value in SOME_MOMENTS]
+        self.check(certain_pages, moments)
+        self.check(possible_pages, moments)
+
+    def test_index(self):
+        wrong = [(InvalidIndex, value) for value in (-1, 0, 4, 5, True, None, "2", 2.0, [2])]
+        self.check(candidates, [(None, 2), (None, 3)] + wrong)
+        self.check(eviction_range, [(None, 3)] + wrong + [(InvalidIndex, 2)])
+
+    def test_nothing_else(self):
+        self.check(known_evictions)
+
+
+class ImpossibleLogsWithoutAnError(Wrong):
+    def test_functions_that_tell_whether_a_log_is_possible(self):
+        log = [("hit", "a")]
+        self.assertIs(is_possible(2, (), log), False)
+        self.assertEqual(why_not(2, (), log), ("first", 0))
+        self.assertIs(is_reason(2, (), log, ("first", 0)), True)
+        self.assertIs(history(2, (), log), None)
+        self.assertEqual(first_impossible(2, (), log), 0)
+        self.assertIs(capacities((), log), None)
 
 
 if __name__ == "__main__":

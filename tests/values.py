@@ -226,3 +226,31 @@ WRONG_CAPACITIES = [
     object(),
     int,
 ]
+
+# Values that are no integers, though some are equal to one.
+NO_INTEGERS = [value for value in WRONG_CAPACITIES if type(value) is not int] + [0.0, 3.0, "", "0", b"0", (0,), [0]]
+
+
+class Refusing:
+    """A value with which nothing can be done."""
+
+    def __eq__(self, other):
+        raise RuntimeError
+
+    def __hash__(self):
+        raise RuntimeError
+
+    def __len__(self):
+        raise RuntimeError
+
+    def __bool__(self):
+        raise RuntimeError
+
+    def __iter__(self):
+        raise RuntimeError
+
+    def __lt__(self, other):
+        raise RuntimeError
+
+    def __index__(self):
+        raise RuntimeError
