@@ -3,6 +3,7 @@
 from hitlog.errors import (
     InvalidCapacity,
     InvalidHistory,
+    InvalidIndex,
     InvalidLog,
     InvalidMoment,
     InvalidPage,
@@ -18,6 +19,11 @@ LONGEST_PAGE = 4
 def is_integer(value):
     """Return whether any value is an integer; True and False are none."""
     return isinstance(value, int) and not isinstance(value, bool)
+
+
+def is_count(value):
+    """Return whether any value is an integer from 0 on."""
+    return is_integer(value) and value >= 0
 
 
 def is_page(value):
@@ -91,10 +97,21 @@ def check_page(page):
         raise InvalidPage("not a page: a string of one to four letters from a to z")
 
 
+def is_moment(log, value):
+    """Return whether any value is a moment of the log."""
+    return is_count(value) and value <= len(log)
+
+
 def check_moment(log, moment):
     """Raise InvalidMoment if the log does not have this moment."""
-    if not is_integer(moment) or not 0 <= moment <= len(log):
+    if not is_moment(log, moment):
         raise InvalidMoment("not a moment: an integer from 0 to the number of events")
+
+
+def check_index(index):
+    """Raise InvalidIndex if nothing can have this index, however much there is."""
+    if not is_count(index):
+        raise InvalidIndex("not an index: an integer from 0 on")
 
 
 def sizes(capacity, start, log):

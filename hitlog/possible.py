@@ -50,36 +50,15 @@ def history(capacity, start, log):
     """Return the history that lets the released gap with the smallest end go first, or None."""
     if not is_possible(capacity, start, log):
         return None
-    misses = evicting_misses(capacity, start, log)
-    all_gaps = gaps(start, log)
-    evicted = {}
-    for gap, e in zip(all_gaps, _smallest_end_first(misses, all_gaps)):
-        if e is not None:
-            evicted[e] = gap[0]
-    # Gaps are listed by their begin, so their pages go in this order.
-    never_again = [page for page, _, _, kind in all_gaps if kind == OPEN]
-    gone = 0
-    for e in misses:
-        if e not in evicted:
-            evicted[e] = never_again[gone]
-            gone += 1
-    return [evicted[miss] for miss in misses]
+    return evicted_pages(evicting_misses(capacity, start, log), gaps(start, log))
 
 
 def first_impossible(capacity, start, log):
     """Return the smallest index with which the log is no longer possible, or None."""
     if is_possible(capacity, start, log):
         return None
-    low = 0
-    high = len(log) - 1
-    # No event makes an impossible log possible again, so each trial halves what is left.
-    while low < high:
-        middle = (low + high) // 2
-        if is_possible(capacity, start, log[:middle + 1]):
-            low = middle + 1
-        else:
-            high = middle
-    return low
+    # No event makes an impossible log possible again.
+    return first_refused(len(log), lambda many: is_possible(capacity, start, log[:many]))
 
 
 def check_possible(capacity, start, log):
@@ -94,6 +73,43 @@ def fits(capacity, misses, all_gaps):
     These are the conditions Held and Released, for the gaps of a log or for others in their place.
     """
     return not _crowded_misses(capacity, misses, all_gaps) and _first_late(misses, all_gaps) is None
+
+
+def evicted_pages(misses, all_gaps):
+    """Return the pages that go at these misses if the released gap with the smallest end goes first.
+
+    The gaps are those of a log or others in their place; they fit.
+    """
+    evicted = {}
+    for gap, e in zip(all_gaps, _smallest_end_first(misses, all_gaps)):
+        if e is not None:
+            evicted[e] = gap[0]
+    # A miss that releases nothing finds the open gap with the smallest begin on the shelf.
+    never_again = sorted([gap for gap in all_gaps if gap[3] == OPEN], key=lambda gap: gap[1])
+    gone = 0
+    for e in misses:
+        if e not in evicted:
+            evicted[e] = never_again[gone][0]
+            gone += 1
+    return [evicted[miss] for miss in misses]
+
+
+def first_refused(length, accepts):
+    """Return the index of the first of so many entries with which they are no longer accepted.
+
+    accepts tells whether so many of the first entries are accepted; all of them are not, and no entry makes up for
+    an earlier one.
+    """
+    low = 0
+    high = length - 1
+    # Each trial halves what is left.
+    while low < high:
+        middle = (low + high) // 2
+        if accepts(middle + 1):
+            low = middle + 1
+        else:
+            high = middle
+    return low
 
 
 def _unknown_hits(start, log):

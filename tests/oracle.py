@@ -168,13 +168,17 @@ def told_by_each_history(capacity, start, log):
     return Told(shelves, {e: {evicted[k] for evicted, _ in all_replays} for k, e in enumerate(misses)})
 
 
-def told_by_contents(capacity, start, log):
-    """Return the same for longer logs: the contents that can be reached and from which the log can go on."""
+def told_by_contents(capacity, start, log, observations=()):
+    """Return the same for longer logs: the contents that can be reached and from which the log can go on.
+
+    If there are observations, only the histories that agree with them count.
+    """
     ways = []
-    reached = {frozenset(start)}
-    for mark, page in log:
+    reached = as_observed({frozenset(start)}, observations, 0)
+    for e, (mark, page) in enumerate(log):
         ways.append({now: steps(capacity, now, mark, page) for now in reached})
         reached = {after for followers in ways[-1].values() for _, after in followers}
+        reached = as_observed(reached, observations, e + 1)
     shelves = [reached]
     victims = {e: set() for e in evicting_misses(capacity, start, log)}
     for e in range(len(log) - 1, -1, -1):
@@ -187,3 +191,67 @@ def told_by_contents(capacity, start, log):
                         victims[e].add(victim)
         shelves.insert(0, going_on)
     return Told(shelves, victims)
+
+
+def as_observed(shelves, observations, moment):
+    """Return those of these contents at a moment that are as observed."""
+    return {
+        shelf for shelf in shelves if all((page in shelf) == present for t, page, present in observations if t == moment)
+    }
+
+
+def agreeing(all_replays, observations):
+    """Return the evictions of those of these replays that agree with the observations."""
+    return [
+        evicted
+        for evicted, contents in all_replays
+        if all((page in contents[moment]) == present for moment, page, present in observations)
+    ]
+
+
+def first_conflict(all_replays, observations):
+    """Return the length of the longest list of first observations with which a replay agrees, or None for all."""
+    for index in range(len(observations)):
+        if not agreeing(all_replays, observations[:index + 1]):
+            return index
+    return None
+
+
+def pages_by_last_occurrence(start, log):
+    """Return all pages that occur, in the order of [24]."""
+    requests = [page for _, page in log]
+    never_requested = [page for page in start if page not in requests]
+    return never_requested + [page for index, page in enumerate(requests) if page not in requests[index + 1:]]
+
+
+def finals(shelves, start, log):
+    """Return these contents at the end, written and ordered as [24] says."""
+    pages = pages_by_last_occurrence(start, log)
+    written = [sorted(pages.index(page) for page in shelf) for shelf in shelves]
+    return [tuple(pages[number] for number in numbers) for numbers in sorted(written)]
+
+
+def why_not_final(capacity, start, log, pages):
+    """Return the first of the reasons of [23] that applies."""
+    if len(pages) != size(capacity, start, log, len(log)):
+        return ("size", size(capacity, start, log, len(log)))
+    for page in pages:
+        if page not in pages_by_last_occurrence(start, log):
+            return ("unknown", page)
+    for e, held in held_counts(capacity, start, log):
+        later = [page for _, page in log[e:]]
+        if not held + len([page for page in pages if page not in later]) <= capacity - 1:
+            return ("held", e)
+    return None
+
+
+def many_histories(capacity, start, log):
+    """Return the number of histories of a longer log: how many lead to each of the contents is counted."""
+    many = {frozenset(start): 1}
+    for mark, page in log:
+        following = {}
+        for now, ways in many.items():
+            for _, after in steps(capacity, now, mark, page):
+                following[after] = following.get(after, 0) + ways
+        many = following
+    return sum(many.values())

@@ -5,10 +5,13 @@ import inspect
 import unittest
 
 from hitlog.capacities import capacities, next_marks
+from hitlog.counting import count_histories, nth_history, rank_history
 from hitlog.errors import ShelfError
 from hitlog.evictions import candidates, eviction_range, known_evictions
+from hitlog.finals import can_be_final, count_finals, nth_final, rank_final, why_not_final
 from hitlog.gaps import gaps, held_counts
 from hitlog.logs import evicting_misses, is_log, is_shelf, replay, sizes
+from hitlog.observations import first_conflict, observed_history
 from hitlog.possible import first_impossible, history, is_possible, is_reason, why_not
 from hitlog.presence import certain_pages, possible_pages, presence
 from tests.values import WRONG_LOGS, WRONG_SHELVES
@@ -17,6 +20,7 @@ START = ("b", "a")
 LOG = [("miss", "c"), ("hit", "a"), ("miss", "b"), ("miss", "d"), ("hit", "a")]
 EVICTED = ["b", "c", "b"]
 THREE = {"capacity": 2, "start": START, "log": LOG}
+OBSERVATIONS = [(4, "a", True), (3, "b", True), (1, "b", False)]
 
 # Each function with its file and its arguments by name; LOG is possible for capacity 2 and START.
 CALLS = [
@@ -40,6 +44,16 @@ CALLS = [
     (candidates, "hitlog.evictions", {**THREE, "index": 2}),
     (known_evictions, "hitlog.evictions", THREE),
     (eviction_range, "hitlog.evictions", {**THREE, "index": 2}),
+    (can_be_final, "hitlog.finals", {**THREE, "pages": ("a", "d")}),
+    (why_not_final, "hitlog.finals", {**THREE, "pages": ("b", "a")}),
+    (count_finals, "hitlog.finals", THREE),
+    (nth_final, "hitlog.finals", {**THREE, "index": 0}),
+    (rank_final, "hitlog.finals", {**THREE, "pages": ("a", "d")}),
+    (first_conflict, "hitlog.observations", {**THREE, "observations": OBSERVATIONS + [(5, "d", False)]}),
+    (observed_history, "hitlog.observations", {**THREE, "observations": OBSERVATIONS}),
+    (count_histories, "hitlog.counting", THREE),
+    (nth_history, "hitlog.counting", {**THREE, "index": 0}),
+    (rank_history, "hitlog.counting", {**THREE, "evicted": EVICTED}),
 ]
 EXPECTED = {
     "is_shelf": True,
@@ -70,6 +84,16 @@ EXPECTED = {
     "candidates": ["c"],
     "known_evictions": [(0, "b"), (2, "c"), (3, "b")],
     "eviction_range": (0, 0),
+    "can_be_final": True,
+    "why_not_final": ("held", 3),
+    "count_finals": 1,
+    "nth_final": ("d", "a"),
+    "rank_final": 0,
+    "first_conflict": 3,
+    "observed_history": ["b", "c", "b"],
+    "count_histories": 1,
+    "nth_history": ["b", "c", "b"],
+    "rank_history": 0,
 }
 LISTS = [(function, arguments) for function, _, arguments in CALLS if isinstance(EXPECTED[function.__name__], list)]
 
@@ -129,6 +153,13 @@ class Arguments(unittest.TestCase):
             (candidates, [[0]]),
             (known_evictions, []),
             (eviction_range, [{}]),
+            (why_not_final, [("a", ["b"])]),
+            (rank_final, [("b", "a")]),
+            (nth_final, [[]]),
+            (first_conflict, [[(3, "a", True), (0, "a", False), (1, "b", 1)]]),
+            (observed_history, [[(2, "a", True), (0, "a", False)]]),
+            (nth_history, [7]),
+            (rank_history, [["b", "a"]]),
         ):
             before = copy.deepcopy(more)
             with self.assertRaises(ShelfError):
@@ -172,6 +203,8 @@ class ReturnedLists(unittest.TestCase):
             (gaps, ((), [])),
             (history, (2, (), [])),
             (known_evictions, (2, (), [])),
+            (observed_history, (2, (), [], [])),
+            (nth_history, (2, (), [], 0)),
         ):
             first, second = function(*arguments), function(*arguments)
             self.assertEqual((first, second), ([], []))
@@ -190,6 +223,9 @@ class ReturnedLists(unittest.TestCase):
         for found in (history(1, (), log), known_evictions(1, (), log)):
             self.assertIsNot(found, log)
         self.assertIsNot(replay(1, (), log, evicted), evicted)
+        observations = []
+        self.assertIsNot(observed_history(1, (), log, observations), observations)
+        self.assertIsNot(nth_history(1, (), log, 0), log)
 
     def test_a_changed_list_has_no_effect(self):
         for function, arguments in LISTS:
@@ -204,9 +240,9 @@ class ChangedArguments(unittest.TestCase):
         for function, arguments in LISTS:
             given = copy.deepcopy(arguments)
             found = function(**given)
-            given["log"].clear()
-            if "evicted" in given:
-                given["evicted"].clear()
+            for value in given.values():
+                if isinstance(value, list):
+                    value.clear()
             self.assertEqual(found, EXPECTED[function.__name__], function)
 
     def test_a_log_changed_in_place_is_read_anew(self):
@@ -252,6 +288,33 @@ class ChangedArguments(unittest.TestCase):
         self.assertEqual(eviction_range(1, (), log, 2), (1, 1))
         self.assertEqual(certain_pages(1, (), log, 2), ("b",))
         self.assertEqual(possible_pages(1, (), log, 3), ("a",))
+
+    def test_a_log_changed_in_place_has_other_histories(self):
+        log = [("miss", "a"), ("miss", "b"), ("miss", "c")]
+        self.assertEqual([nth_final(2, (), log, index) for index in range(2)], [("a", "c"), ("b", "c")])
+        self.assertEqual(rank_final(2, (), log, ("c", "b")), 1)
+        self.assertEqual([nth_history(2, (), log, index) for index in range(2)], [["a"], ["b"]])
+        self.assertEqual(rank_history(2, (), log, ["b"]), 1)
+        log.append(("hit", "a"))
+        self.assertEqual(count_finals(2, (), log), 1)
+        self.assertEqual(nth_final(2, (), log, 0), ("c", "a"))
+        self.assertEqual(why_not_final(2, (), log, ("c", "b")), ("held", 2))
+        self.assertEqual(count_histories(2, (), log), 1)
+        self.assertEqual(rank_history(2, (), log, ["b"]), 0)
+        log[3] = ("miss", "a")
+        self.assertIs(can_be_final(2, (), log, ("c", "a")), True)
+        self.assertEqual(nth_history(2, (), log, 1), ["a", "c"])
+
+    def test_observations_changed_in_place_are_read_anew(self):
+        log, observations = [("miss", "a"), ("miss", "b"), ("miss", "c")], [(3, "a", True)]
+        self.assertEqual(observed_history(2, (), log, observations), ["b"])
+        observations[0] = (3, "a", False)
+        self.assertEqual(observed_history(2, (), log, observations), ["a"])
+        observations.append((3, "b", False))
+        self.assertEqual(first_conflict(2, (), log, observations), 1)
+        self.assertIs(observed_history(2, (), log, observations), None)
+        observations.clear()
+        self.assertIs(first_conflict(2, (), log, observations), None)
 
     def test_a_log_that_becomes_wrong_and_right_again(self):
         log = [("miss", "a"), ("miss", "b")]

@@ -1,11 +1,14 @@
-"""The examples of the document, sections 4 to 9, with exactly the value shown."""
+"""The examples of the document, sections 4 to 12, with exactly the value shown."""
 
 import unittest
 
 from hitlog.capacities import capacities, next_marks
+from hitlog.counting import count_histories, nth_history, rank_history
 from hitlog.evictions import candidates, eviction_range, known_evictions
+from hitlog.finals import can_be_final, count_finals, nth_final, rank_final, why_not_final
 from hitlog.gaps import gaps, held_counts
 from hitlog.logs import evicting_misses, is_log, replay, sizes
+from hitlog.observations import first_conflict, observed_history
 from hitlog.possible import first_impossible, history, is_possible, is_reason, why_not
 from hitlog.presence import certain_pages, possible_pages, presence
 
@@ -88,6 +91,28 @@ class Examples(unittest.TestCase):
     def test_eviction_range(self):
         value = eviction_range(2, (), [("miss", "a"), ("miss", "b"), ("miss", "c"), ("miss", "a"), ("miss", "b")], 4)
         self.check(value, "(3, 3)")
+
+    def test_finals(self):
+        log = [("miss", "a"), ("miss", "b"), ("miss", "c"), ("miss", "a"), ("miss", "b")]
+        self.check(why_not_final(2, (), log, ("a", "c")), "('held', 4)")
+        self.check(can_be_final(2, (), log, ("b", "c")), "True")
+        self.check(count_finals(2, (), log), "2")
+        self.check(nth_final(2, (), log, 0), "('c', 'b')")
+        self.check(rank_final(2, (), log, ("a", "b")), "1")
+
+    def test_first_conflict(self):
+        value = first_conflict(1, (), [("miss", "a"), ("miss", "b")], [(1, "a", True), (2, "a", True)])
+        self.check(value, "1")
+
+    def test_observed_history(self):
+        value = observed_history(2, (), [("miss", "a"), ("miss", "b"), ("miss", "c")], [(3, "a", True)])
+        self.check(value, "['b']")
+
+    def test_counting(self):
+        log = [("miss", "a"), ("miss", "b"), ("miss", "c"), ("miss", "d")]
+        self.check(count_histories(2, (), log), "4")
+        self.check(nth_history(2, (), log, 2), "['b', 'a']")
+        self.check(rank_history(2, (), log, ["b", "c"]), "3")
 
 
 if __name__ == "__main__":

@@ -6,8 +6,10 @@ import unittest
 from hitlog.capacities import capacities, next_marks
 from hitlog.errors import InvalidHistory
 from hitlog.evictions import candidates, eviction_range, known_evictions
+from hitlog.finals import can_be_final, count_finals, nth_final, rank_final
 from hitlog.gaps import gaps, held_counts
 from hitlog.logs import evicting_misses, is_log, is_shelf, replay, sizes
+from hitlog.observations import first_conflict, observed_history
 from hitlog.possible import first_impossible, history, is_possible, is_reason, why_not
 from hitlog.presence import certain_pages, possible_pages, presence
 from tests import oracle
@@ -159,6 +161,22 @@ class LargePossibleLogs(unittest.TestCase):
                     first, last = eviction_range(capacity, start, log, end)
                     self.assertTrue(begin < first <= at[0] <= last < end)
 
+    def test_finals(self):
+        for capacity, start, log, evicted in large_cases():
+            last = replay(capacity, start, log, evicted)[-1]
+            self.assertIs(can_be_final(capacity, start, log, last), True)
+            index = rank_final(capacity, start, log, last)
+            self.assertTrue(0 <= index < count_finals(capacity, start, log))
+            self.assertEqual(sorted(nth_final(capacity, start, log, index)), list(last))
+
+    def test_observations(self):
+        for capacity, start, log, evicted in large_cases():
+            contents = replay(capacity, start, log, evicted)
+            observations = [(moment, NAMES[moment], NAMES[moment] in contents[moment]) for moment in range(130)]
+            self.assertIs(first_conflict(capacity, start, log, observations), None)
+            found = replay(capacity, start, log, observed_history(capacity, start, log, observations))
+            self.assertEqual([(t, page, page in found[t]) for t, page, _ in observations], observations)
+
     def test_held_pages_on_a_full_shelf(self):
         start = tuple(NAMES[:40])
         log = [("miss", "zzzz")] + [("hit", page) for page in NAMES[1:40]]
@@ -190,6 +208,9 @@ class LargePossibleLogs(unittest.TestCase):
             possible_pages(capacity, start, log, 130)
             candidates(capacity, start, log, evicting_misses(capacity, start, log)[-1])
             known_evictions(capacity, start, log)
+            nth_final(capacity, start, log, count_finals(capacity, start, log) - 1)
+            observed_history(capacity, start, log, [(t, log[-1][1], False) for t in range(130)])
+            first_conflict(capacity, start, log, [(t, "zzzz", False) for t in range(130)] + [(130, "zzzz", True)])
         self.assertLess(time.perf_counter() - begun, 30)
 
 

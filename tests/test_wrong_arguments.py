@@ -1,22 +1,28 @@
-"""Tests of [3] and of the errors in [11] to [22]: each error alone, and which one comes first."""
+"""Tests of [3] and of the errors in [11] to [27]: each error alone, and which one comes first."""
 
 import unittest
 from itertools import product
 
 from hitlog.capacities import capacities, next_marks
+from hitlog.counting import count_histories, nth_history, rank_history
 from hitlog.errors import (
     InvalidCapacity,
     InvalidHistory,
     InvalidIndex,
     InvalidLog,
     InvalidMoment,
+    InvalidObservations,
     InvalidPage,
+    InvalidPages,
     InvalidShelf,
+    NotFinal,
     NotPossible,
 )
 from hitlog.evictions import candidates, eviction_range, known_evictions
+from hitlog.finals import can_be_final, count_finals, nth_final, rank_final, why_not_final
 from hitlog.gaps import gaps, held_counts
 from hitlog.logs import evicting_misses, replay, sizes
+from hitlog.observations import first_conflict, observed_history
 from hitlog.possible import first_impossible, history, is_possible, is_reason, why_not
 from hitlog.presence import certain_pages, possible_pages, presence
 from tests.values import WRONG_CAPACITIES, WRONG_LOGS, WRONG_SHELVES
@@ -33,9 +39,19 @@ def with_more(function, *more):
     return lambda capacity, start, log: function(capacity, start, log, *more)
 
 
-ONLY_WITH_CAPACITY = [sizes, evicting_misses, held_counts, is_possible, why_not, history, first_impossible]
+ONLY_WITH_CAPACITY = [
+    sizes,
+    evicting_misses,
+    held_counts,
+    is_possible,
+    why_not,
+    history,
+    first_impossible,
+    count_histories,
+]
 WITH_CAPACITY = ONLY_WITH_CAPACITY + [
     known_evictions,
+    count_finals,
     replay_without_evictions,
     with_more(is_reason, None),
     with_more(next_marks, "a"),
@@ -44,6 +60,14 @@ WITH_CAPACITY = ONLY_WITH_CAPACITY + [
     with_more(possible_pages, 0),
     with_more(candidates, 0),
     with_more(eviction_range, 0),
+    with_more(can_be_final, ("a",)),
+    with_more(why_not_final, ("a",)),
+    with_more(nth_final, 0),
+    with_more(rank_final, ("a",)),
+    with_more(first_conflict, []),
+    with_more(observed_history, []),
+    with_more(nth_history, 0),
+    with_more(rank_history, []),
     # A wrong argument behind the first three comes later.
     with_more(next_marks, None),
     with_more(presence, "A", -1),
@@ -51,6 +75,14 @@ WITH_CAPACITY = ONLY_WITH_CAPACITY + [
     with_more(possible_pages, None),
     with_more(candidates, None),
     with_more(eviction_range, None),
+    with_more(can_be_final, None),
+    with_more(why_not_final, ["a"]),
+    with_more(nth_final, -1),
+    with_more(rank_final, ("a", "a")),
+    with_more(first_conflict, None),
+    with_more(observed_history, [(0, "a", 1)]),
+    with_more(nth_history, None),
+    with_more(rank_history, None),
 ]
 WITHOUT_CAPACITY = [gaps, capacities]
 
@@ -223,6 +255,48 @@ class NotPossibleComesLast(Wrong):
 
     def test_nothing_else(self):
         self.check(known_evictions)
+        self.check(count_finals)
+
+    def test_pages(self):
+        pages = [(None, ()), (None, ("b", "a"))] + [(InvalidPages, value) for value in SOME_SHELVES]
+        self.check(can_be_final, pages)
+        self.check(why_not_final, pages)
+        self.check(rank_final, [(None, ("c", "a"))] + [(InvalidPages, value) for value in SOME_SHELVES])
+
+    def test_an_integer(self):
+        self.check(nth_final, [(None, 0)] + [(InvalidIndex, value) for value in (-1, True, None, "2", 2.0, [2])])
+
+    def test_observations(self):
+        wrong = [None, (), [(0, "a")], [(6, "a", True)], [(0, "A", True)], [(0, "a", 0)], [(True, "a", False)]]
+        choices = [(None, []), (None, [(0, "a", True)])] + [(InvalidObservations, value) for value in wrong]
+        self.check(first_conflict, choices)
+        self.check(observed_history, choices)
+
+
+class ErrorsBehindNotPossible(Wrong):
+    right = NotPossibleComesLast.right
+    impossible = NotPossibleComesLast.impossible
+
+    def test_an_index_that_is_too_large(self):
+        self.assertEqual(count_finals(2, (), self.right), 2)
+        for index in (2, 10**44):
+            self.expect(NotPossible, nth_final, 2, (), self.impossible, index)
+            self.expect(InvalidIndex, nth_final, 2, (), self.right, index)
+        self.expect(InvalidIndex, nth_final, 2, (), self.impossible, -1)
+
+    def test_pages_that_are_not_final(self):
+        for pages in ((), ("a",), ("b", "c"), ("a", "z"), ("a", "b", "c")):
+            self.expect(NotPossible, rank_final, 2, (), self.impossible, pages)
+            self.expect(NotFinal, rank_final, 2, (), self.right, pages)
+        self.expect(InvalidPages, rank_final, 2, (), self.impossible, ("a", "a"))
+
+
+class HistoriesOfImpossibleLogs(Wrong):
+    def test_no_index_and_no_history(self):
+        log = [("miss", "a"), ("miss", "a")]
+        self.assertEqual(count_histories(2, (), log), 0)
+        self.expect(InvalidIndex, nth_history, 2, (), log, 0)
+        self.expect(InvalidHistory, rank_history, 2, (), log, [])
 
 
 class ImpossibleLogsWithoutAnError(Wrong):
