@@ -33,13 +33,18 @@ def is_page(value):
     return all([letter in LETTERS for letter in value])
 
 
+def is_mark(value):
+    """Return whether any value is a mark."""
+    # Only a string is compared with the marks: a comparison of bytes with a string may warn.
+    return isinstance(value, str) and value in (HIT, MISS)
+
+
 def is_event(value):
     """Return whether any value is an event."""
     if not isinstance(value, tuple) or len(value) != 2:
         return False
     mark, page = value
-    # Only a string is compared with the marks: a comparison of bytes with a string may warn.
-    return isinstance(mark, str) and mark in (HIT, MISS) and is_page(page)
+    return is_mark(mark) and is_page(page)
 
 
 def is_page_list(value):

@@ -39,6 +39,17 @@ def played_cases():
     return cases
 
 
+def large_cases():
+    """Return (capacity, start, log, evicted) for possible logs of 130 events, on few pages and on many."""
+    cases = []
+    for seed, capacity in enumerate((1, 2, 39, 40, 40, 40, 40, 40)):
+        pages = NAMES[:capacity + (1, 20, 60)[seed % 3]]
+        start = tuple(NAMES[capacity // 2:capacity // 2 + (0, capacity // 2, capacity)[seed // 2 % 3]])
+        log, evicted = played_log(seed, capacity, start, pages, 130, (0, 3, 6)[seed % 3])
+        cases.append((capacity, start, log, evicted))
+    return cases
+
+
 def turning_log(pages, events=130):
     """Return a log of misses of so many pages in turn."""
     return [("miss", NAMES[index % pages]) for index in range(events)]

@@ -195,9 +195,8 @@ def told_by_contents(capacity, start, log, observations=()):
 
 def as_observed(shelves, observations, moment):
     """Return those of these contents at a moment that are as observed."""
-    return {
-        shelf for shelf in shelves if all((page in shelf) == present for t, page, present in observations if t == moment)
-    }
+    seen_now = [(page, present) for t, page, present in observations if t == moment]
+    return {shelf for shelf in shelves if all((page in shelf) == present for page, present in seen_now)}
 
 
 def agreeing(all_replays, observations):
@@ -255,3 +254,35 @@ def many_histories(capacity, start, log):
                 following[after] = following.get(after, 0) + ways
         many = following
     return sum(many.values())
+
+
+def rule_play(rule, capacity, start, requests):
+    """Return the log and the evicted pages of a rule, from the words of [29]."""
+    shelf = list(start)
+    latest = {page: index - len(start) for index, page in enumerate(start)}
+    added = dict(latest)
+    log = []
+    evicted = []
+    for now, page in enumerate(requests):
+        log.append(("hit" if page in shelf else "miss", page))
+        if page not in shelf:
+            if len(shelf) == capacity:
+                victim = rule_victim(rule, shelf, latest, added, requests, now)
+                shelf.remove(victim)
+                evicted.append(victim)
+            shelf.append(page)
+            added[page] = now
+        latest[page] = now
+    return log, evicted
+
+
+def rule_victim(rule, shelf, latest, added, requests, now):
+    if rule == "LRU":
+        return min(shelf, key=lambda page: latest[page])
+    if rule == "FIFO":
+        return min(shelf, key=lambda page: added[page])
+    following = {page: [t for t in range(now + 1, len(requests)) if requests[t] == page] for page in shelf}
+    never = [page for page in shelf if not following[page]]
+    if never:
+        return min(never, key=lambda page: latest[page])
+    return max(shelf, key=lambda page: following[page][0])

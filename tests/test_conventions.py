@@ -14,12 +14,16 @@ from hitlog.logs import evicting_misses, is_log, is_shelf, replay, sizes
 from hitlog.observations import first_conflict, observed_history
 from hitlog.possible import first_impossible, history, is_possible, is_reason, why_not
 from hitlog.presence import certain_pages, possible_pages, presence
+from hitlog.repeats import is_possible_repeated, most_repeats
+from hitlog.rules import first_difference, rule_evictions, rule_log
+from hitlog.texts import format_log, format_shelf, parse_log, parse_shelf
 from tests.values import WRONG_LOGS, WRONG_SHELVES
 
 START = ("b", "a")
 LOG = [("miss", "c"), ("hit", "a"), ("miss", "b"), ("miss", "d"), ("hit", "a")]
 EVICTED = ["b", "c", "b"]
 THREE = {"capacity": 2, "start": START, "log": LOG}
+REQUESTS = ["c", "b", "c"]
 OBSERVATIONS = [(4, "a", True), (3, "b", True), (1, "b", False)]
 
 # Each function with its file and its arguments by name; LOG is possible for capacity 2 and START.
@@ -54,6 +58,15 @@ CALLS = [
     (count_histories, "hitlog.counting", THREE),
     (nth_history, "hitlog.counting", {**THREE, "index": 0}),
     (rank_history, "hitlog.counting", {**THREE, "evicted": EVICTED}),
+    (most_repeats, "hitlog.repeats", THREE),
+    (is_possible_repeated, "hitlog.repeats", {**THREE, "times": 2}),
+    (rule_log, "hitlog.rules", {"rule": "LRU", "capacity": 2, "start": START, "requests": REQUESTS}),
+    (rule_evictions, "hitlog.rules", {"rule": "OPT", "capacity": 2, "start": START, "requests": REQUESTS}),
+    (first_difference, "hitlog.rules", {"rule": "FIFO", **THREE}),
+    (format_log, "hitlog.texts", {"log": LOG}),
+    (format_shelf, "hitlog.texts", {"shelf": START}),
+    (parse_log, "hitlog.texts", {"text": "+c -ab"}),
+    (parse_shelf, "hitlog.texts", {"text": "c ab"}),
 ]
 EXPECTED = {
     "is_shelf": True,
@@ -94,6 +107,15 @@ EXPECTED = {
     "count_histories": 1,
     "nth_history": ["b", "c", "b"],
     "rank_history": 0,
+    "most_repeats": None,
+    "is_possible_repeated": True,
+    "rule_log": [("miss", "c"), ("miss", "b"), ("hit", "c")],
+    "rule_evictions": ["a"],
+    "first_difference": 4,
+    "format_log": "-c +a -b -d +a",
+    "format_shelf": "b a",
+    "parse_log": [("hit", "c"), ("miss", "ab")],
+    "parse_shelf": ("c", "ab"),
 }
 LISTS = [(function, arguments) for function, _, arguments in CALLS if isinstance(EXPECTED[function.__name__], list)]
 
@@ -160,6 +182,8 @@ class Arguments(unittest.TestCase):
             (observed_history, [[(2, "a", True), (0, "a", False)]]),
             (nth_history, [7]),
             (rank_history, [["b", "a"]]),
+            (is_possible_repeated, [-1]),
+            (is_possible_repeated, [[]]),
         ):
             before = copy.deepcopy(more)
             with self.assertRaises(ShelfError):
@@ -205,6 +229,9 @@ class ReturnedLists(unittest.TestCase):
             (known_evictions, (2, (), [])),
             (observed_history, (2, (), [], [])),
             (nth_history, (2, (), [], 0)),
+            (rule_log, ("LRU", 2, (), [])),
+            (rule_evictions, ("OPT", 2, (), [])),
+            (parse_log, ("",)),
         ):
             first, second = function(*arguments), function(*arguments)
             self.assertEqual((first, second), ([], []))
@@ -226,6 +253,8 @@ class ReturnedLists(unittest.TestCase):
         observations = []
         self.assertIsNot(observed_history(1, (), log, observations), observations)
         self.assertIsNot(nth_history(1, (), log, 0), log)
+        self.assertIsNot(rule_log("LRU", 1, (), log), log)
+        self.assertIsNot(rule_evictions("FIFO", 1, (), log), log)
 
     def test_a_changed_list_has_no_effect(self):
         for function, arguments in LISTS:
@@ -315,6 +344,21 @@ class ChangedArguments(unittest.TestCase):
         self.assertIs(observed_history(2, (), log, observations), None)
         observations.clear()
         self.assertIs(first_conflict(2, (), log, observations), None)
+
+    def test_requests_changed_in_place_are_read_anew(self):
+        requests = ["a", "b", "c"]
+        self.assertEqual(rule_evictions("OPT", 2, (), requests), ["a"])
+        requests.append("a")
+        self.assertEqual(rule_evictions("OPT", 2, (), requests), ["b"])
+        self.assertEqual(rule_log("OPT", 2, (), requests)[-1], ("hit", "a"))
+        log = rule_log("OPT", 2, (), requests)
+        self.assertIs(first_difference("OPT", 2, (), log), None)
+        log[3] = ("miss", "a")
+        self.assertEqual(first_difference("OPT", 2, (), log), 3)
+        self.assertEqual(most_repeats(2, (), log), 1)
+        self.assertEqual(format_log(log), "-a -b -c -a")
+        log.pop()
+        self.assertIs(is_possible_repeated(3, (), log, 2), False)
 
     def test_a_log_that_becomes_wrong_and_right_again(self):
         log = [("miss", "a"), ("miss", "b")]

@@ -1,4 +1,4 @@
-"""The examples of the document, sections 4 to 12, with exactly the value shown."""
+"""The examples of the document, sections 4 to 16, with exactly the value shown."""
 
 import unittest
 
@@ -7,10 +7,14 @@ from hitlog.counting import count_histories, nth_history, rank_history
 from hitlog.evictions import candidates, eviction_range, known_evictions
 from hitlog.finals import can_be_final, count_finals, nth_final, rank_final, why_not_final
 from hitlog.gaps import gaps, held_counts
+from hitlog.live import LiveShelf
 from hitlog.logs import evicting_misses, is_log, replay, sizes
 from hitlog.observations import first_conflict, observed_history
 from hitlog.possible import first_impossible, history, is_possible, is_reason, why_not
 from hitlog.presence import certain_pages, possible_pages, presence
+from hitlog.repeats import is_possible_repeated, most_repeats
+from hitlog.rules import first_difference, rule_evictions, rule_log
+from hitlog.texts import format_shelf, parse_log
 
 
 class Examples(unittest.TestCase):
@@ -113,6 +117,28 @@ class Examples(unittest.TestCase):
         self.check(count_histories(2, (), log), "4")
         self.check(nth_history(2, (), log, 2), "['b', 'a']")
         self.check(rank_history(2, (), log, ["b", "c"]), "3")
+
+    def test_repeats(self):
+        self.check(most_repeats(2, (), [("miss", "a"), ("miss", "b")]), "1")
+        self.check(is_possible_repeated(1, (), [("miss", "a"), ("miss", "b")], 1000000), "True")
+
+    def test_rules(self):
+        value = rule_log("LRU", 2, (), ["a", "b", "a", "c", "b"])
+        self.check(value, "[('miss', 'a'), ('miss', 'b'), ('hit', 'a'), ('miss', 'c'), ('miss', 'b')]")
+        self.check(rule_evictions("OPT", 2, (), ["a", "b", "a", "c", "b"]), "['a']")
+        log = [("miss", "a"), ("miss", "b"), ("hit", "a"), ("miss", "c"), ("miss", "b")]
+        self.check(first_difference("FIFO", 2, (), log), "4")
+
+    def test_live_shelf(self):
+        shelf = LiveShelf(2)
+        for page in ("a", "b", "c"):
+            self.check(shelf.request(page, "miss"), "None")
+        self.check(shelf.observe("a", True), "None")
+        self.check(shelf.certain(), "('a', 'c')")
+
+    def test_texts(self):
+        self.check(parse_log("-a -b +a"), "[('miss', 'a'), ('miss', 'b'), ('hit', 'a')]")
+        self.check(format_shelf(("b", "a")), "'b a'")
 
 
 if __name__ == "__main__":

@@ -12,8 +12,10 @@ from hitlog.logs import evicting_misses, is_log, is_shelf, replay, sizes
 from hitlog.observations import first_conflict, observed_history
 from hitlog.possible import first_impossible, history, is_possible, is_reason, why_not
 from hitlog.presence import certain_pages, possible_pages, presence
+from hitlog.repeats import is_possible_repeated, most_repeats
+from hitlog.rules import first_difference
 from tests import oracle
-from tests.logs import NAMES, played_log, turning_log
+from tests.logs import NAMES, large_cases, turning_log
 
 CAPACITIES = (1, 2, 3, 20, 39, 40)
 
@@ -82,17 +84,6 @@ class Limits(unittest.TestCase):
             held_counts(40, (), log)
             replay(40, (), turning, evicted)
         self.assertLess(time.perf_counter() - begun, 10)
-
-
-def large_cases():
-    """Return (capacity, start, log, evicted) for possible logs of 130 events, on few pages and on many."""
-    cases = []
-    for seed, capacity in enumerate((1, 2, 39, 40, 40, 40, 40, 40)):
-        pages = NAMES[:capacity + (1, 20, 60)[seed % 3]]
-        start = tuple(NAMES[capacity // 2:capacity // 2 + (0, capacity // 2, capacity)[seed // 2 % 3]])
-        log, evicted = played_log(seed, capacity, start, pages, 130, (0, 3, 6)[seed % 3])
-        cases.append((capacity, start, log, evicted))
-    return cases
 
 
 class LargePossibleLogs(unittest.TestCase):
@@ -209,6 +200,10 @@ class LargePossibleLogs(unittest.TestCase):
             candidates(capacity, start, log, evicting_misses(capacity, start, log)[-1])
             known_evictions(capacity, start, log)
             nth_final(capacity, start, log, count_finals(capacity, start, log) - 1)
+            most_repeats(capacity, start, log)
+            is_possible_repeated(capacity, start, log, 10**45 - 1)
+            for rule in ("LRU", "FIFO", "OPT"):
+                first_difference(rule, capacity, start, log)
             observed_history(capacity, start, log, [(t, log[-1][1], False) for t in range(130)])
             first_conflict(capacity, start, log, [(t, "zzzz", False) for t in range(130)] + [(130, "zzzz", True)])
         self.assertLess(time.perf_counter() - begun, 30)

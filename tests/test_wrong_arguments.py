@@ -1,4 +1,4 @@
-"""Tests of [3] and of the errors in [11] to [27]: each error alone, and which one comes first."""
+"""Tests of [3] and of the errors in [11] to [29]: each error alone, and which one comes first."""
 
 import unittest
 from itertools import product
@@ -15,6 +15,7 @@ from hitlog.errors import (
     InvalidPage,
     InvalidPages,
     InvalidShelf,
+    InvalidTimes,
     NotFinal,
     NotPossible,
 )
@@ -25,6 +26,8 @@ from hitlog.logs import evicting_misses, replay, sizes
 from hitlog.observations import first_conflict, observed_history
 from hitlog.possible import first_impossible, history, is_possible, is_reason, why_not
 from hitlog.presence import certain_pages, possible_pages, presence
+from hitlog.repeats import is_possible_repeated, most_repeats
+from hitlog.rules import first_difference
 from tests.values import WRONG_CAPACITIES, WRONG_LOGS, WRONG_SHELVES
 
 LOG = [("miss", "a"), ("miss", "b"), ("hit", "a")]
@@ -39,6 +42,11 @@ def with_more(function, *more):
     return lambda capacity, start, log: function(capacity, start, log, *more)
 
 
+def behind_rule(function, rule):
+    """Return the function of three arguments that passes this rule before them."""
+    return lambda capacity, start, log: function(rule, capacity, start, log)
+
+
 ONLY_WITH_CAPACITY = [
     sizes,
     evicting_misses,
@@ -48,6 +56,7 @@ ONLY_WITH_CAPACITY = [
     history,
     first_impossible,
     count_histories,
+    most_repeats,
 ]
 WITH_CAPACITY = ONLY_WITH_CAPACITY + [
     known_evictions,
@@ -68,6 +77,9 @@ WITH_CAPACITY = ONLY_WITH_CAPACITY + [
     with_more(observed_history, []),
     with_more(nth_history, 0),
     with_more(rank_history, []),
+    with_more(is_possible_repeated, 0),
+    behind_rule(first_difference, "LRU"),
+    behind_rule(first_difference, "OPT"),
     # A wrong argument behind the first three comes later.
     with_more(next_marks, None),
     with_more(presence, "A", -1),
@@ -83,6 +95,7 @@ WITH_CAPACITY = ONLY_WITH_CAPACITY + [
     with_more(observed_history, [(0, "a", 1)]),
     with_more(nth_history, None),
     with_more(rank_history, None),
+    with_more(is_possible_repeated, -1),
 ]
 WITHOUT_CAPACITY = [gaps, capacities]
 
@@ -195,6 +208,15 @@ class SeveralWrongArguments(Wrong):
             self.choices([], InvalidHistory, SOME_HISTORIES),
         ]
         self.check(replay, choices)
+
+    def test_capacity_shelf_log_times(self):
+        choices = [
+            self.choices(2, InvalidCapacity, SOME_CAPACITIES),
+            self.choices((), InvalidShelf, SOME_SHELVES + [("a", "b", "c")]),
+            self.choices(LOG, InvalidLog, SOME_LOGS),
+            self.choices(0, InvalidTimes, [-1, True, None, "2", 2.0, [2]]),
+        ]
+        self.check(is_possible_repeated, choices)
 
     def test_shelf_log(self):
         choices = [
